@@ -203,7 +203,8 @@ func TestMostText(t *testing.T) {
 			t.Errorf("%d bytes, not %d", len(text), size)
 		}
 	}
-	long := []rules.Tree{longAs(api.MostText + 1), longAs(api.MostText + 7)}
+	// the last one is read from a text of MostText bytes, to which its own adds spaces and a line end
+	long := []rules.Tree{longAs(api.MostText + 1), longAs(api.MostText + 3), read(t, "s:'"+strings.Repeat("x", api.MostText-5)+"';")}
 	for _, body := range []string{strings.Repeat("r", api.MostText/24), strings.Repeat("r", api.MostText-2)} {
 		var x rules.Tree
 		for i := range 24 {
@@ -298,7 +299,7 @@ func TestMayNotBe(t *testing.T) {
 		}
 	}
 	// ErrArg is ahead of ErrBig: nothing leads to the last node
-	x := longAs(2 * api.MostText / 3)
+	x := longAs(api.MostText + 1)
 	x.Nodes = append(x.Nodes, x.Nodes[0])
 	x.Rules[0].Body = 1
 	for _, y := range []rules.Tree{x, longAs(2 * api.MostText)} {
